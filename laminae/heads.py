@@ -1,13 +1,12 @@
 """Heads: the sectors that say which generation lasts and where everything begins."""
 
-from laminae.disk import SECTOR_WORDS
 from laminae.errors import BadImage
 
 LOG_BLOCKS = 4
 FIRST_BLOCK = 5
 FIRST_SECTOR = 4
 LOG_SECTORS = 16
-LAST_WORD = SECTOR_WORDS - 1
+LAST_WORD = 7
 
 
 class Head:
