@@ -27,6 +27,12 @@ class Store:
         """Set how many blocks stay free when one is taken."""
         self.reserve = reserve
 
+    def use_head(self, head):
+        """Go on from a head that lasts now, and with it the blocks that have uses."""
+        self.head = head
+        self.space.settle()
+        self._memory = {}
+
     def generation(self):
         """Return the generation that is being made."""
         return self.head.generation + 1

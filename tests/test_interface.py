@@ -16,6 +16,49 @@ FUNCTIONS = {
         "next_item(store, root, key)", "last_item(store, root)", "items_between(store, root, low, high)",
         "height(store, root)", "node_pointers(store, root)", "release_pointer(store, pointer, is_node)",
         "release(store, root)"],
+    "commits": ["commit_steps(store)", "commit(store)"],
+    "inodes": [
+        "make_tree(store, owner)", "read_record(store, root, inode)", "write_record(store, root, inode, record)",
+        "next_inode(store, root)", "add_inode(store, root, kind, second, owner)",
+        "set_owner_of(store, root, inode, owner)", "list_inodes(store, root)", "list_orphans(store, root)",
+        "charge_of(store, root, inode)"],
+    "dirs": [
+        "find_entry(store, root, directory, name)", "add_entry(store, root, directory, name, inode, kind)",
+        "drop_entry(store, root, directory, name)", "change_entry(store, root, directory, name, inode, kind)",
+        "list_entries(store, root, directory)"],
+    "data": [
+        "read_range(store, root, inode, start, count)", "write_range(store, root, inode, start, cells)",
+        "set_length(store, root, inode, length)", "share_range(store, root, source, first, target, at, units)",
+        "units_after_share(store, root, source, first, target, at, units)",
+        "units_after_write(store, root, inode, start, cells)", "list_units(store, root, inode)",
+        "count_units(store, root, inode)", "erase_inode(store, root, inode)"],
+    "paths": [
+        "split_path(path)", "follow(store, root, start, names)",
+        "make_entry(store, root, directory, name, kind, owner)", "link_entry(store, root, inode, directory, name)",
+        "unlink_entry(store, root, directory, name)", "remove_directory_entry(store, root, directory, name)",
+        "move_entry(store, root, directory, name, target, new_name)", "is_within(store, root, inner, outer)",
+        "depth_of(store, root, directory)", "height_of(store, root, directory)",
+        "path_names(store, root, directory)"],
+    "volumes": [
+        "list_volumes(store)", "find_volume(store, name)", "prepare_root(store, name)", "set_root(store, name, root)",
+        "count_charges(store, root)", "make_volume(store, accounts, name)", "take_snapshot(store, volume, name)",
+        "clone_snapshot(store, accounts, snapshot, name)", "drop_volume(store, accounts, name)",
+        "roll_back(store, accounts, volume, snapshot)", "waiting_roots(store)", "release_step(store)"],
+    "handles": [
+        "find_orphans(store, volume)", "remove_orphan(store, accounts, volume, inode)",
+        "remove_if_room(store, accounts, volume, inode)", "recover_orphan(store)",
+        "close_open_file(store, accounts, handles, number)", "read_open_file(store, handles, number, count)",
+        "write_open_file(store, accounts, handles, number, cells)",
+        "resize_open_file(store, accounts, handles, number, length)"],
+}
+CONSTANTS = {
+    "disk": {"MIN_BLOCKS": 96, "MAX_BLOCKS": 256, "SECTOR_WORDS": 8, "BLOCK_WORDS": 32},
+    "heads": {"LOG_BLOCKS": 4, "FIRST_BLOCK": 5, "FIRST_SECTOR": 4, "LOG_SECTORS": 16},
+    "nodes": {"LEAF": 1, "INNER": 2, "LEAF_ITEMS": 4, "INNER_ITEMS": 5},
+    "space": {"ADD": 60, "REMOVE": 20},
+    "inodes": {"FILE": 1, "DIRECTORY": 2, "ROOT": 1, "MAX_LINKS": 60, "MAX_ENTRIES": 100},
+    "data": {"UNIT": 32, "MAX_CELLS": 2048},
+    "paths": {"MAX_NAMES": 8, "MAX_DEPTH": 8},
 }
 CLASSES = {
     "disk": {"Disk": [
@@ -31,6 +74,16 @@ CLASSES = {
         "generation(self)", "read(self, pointer)", "next_pointer(self)", "make(self, words)", "is_new(self, pointer)",
         "write(self, pointer, words)", "share(self, pointer)", "drop(self, pointer)", "uses(self, pointer)",
         "require(self, many)", "free(self)", "new_blocks(self)", "saved(self)", "restore(self, saved)"]},
+    "owners": {"Accounts": [
+        "__init__(self, store)", "list_owners(self)", "is_registered(self, owner)", "chain(self, owner)",
+        "usage(self, owner)", "put_owner(self, store, owner, parent, charge_limit, inode_limit)",
+        "drop_owner(self, store, owner)", "check_charge(self, owner, charge, inodes)",
+        "add_charge(self, owner, charge, inodes)", "check_change(self, removed, added)",
+        "apply_change(self, removed, added)"]},
+    "handles": {"Handles": [
+        "__init__(self)", "open_files(self)", "add_open_file(self, volume, inode, mode)", "look_up(self, number)",
+        "move_to(self, number, position)", "add_reference(self, number)", "drop_reference(self, number)",
+        "is_open(self, volume, inode)", "uses_volume(self, volume)"]},
 }
 
 
@@ -48,6 +101,11 @@ class InterfaceTest(unittest.TestCase):
                 value = vars(found)[function.partition("(")[0]]
                 self.assertEqual(written(value), function)
                 self.assertEqual(value.__module__, "laminae." + module)
+
+    def test_constants(self):
+        for module, constants in CONSTANTS.items():
+            found = vars(importlib.import_module("laminae." + module))
+            self.assertEqual({name: found[name] for name in constants}, constants)
 
     def test_methods_stand_in_the_class_itself(self):
         for module, classes in CLASSES.items():
