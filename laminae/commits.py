@@ -9,7 +9,7 @@ FLUSH = "flush"
 
 def next_head(store):
     """Return the head that makes the present state of a store last."""
-    return Head(store.generation(), store.table, store.head.blocks)
+    return Head(store.generation(), store.table, store.disk.blocks)
 
 
 def block_steps(store, number):

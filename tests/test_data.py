@@ -572,11 +572,25 @@ class EraseTest(DataCase):
         self.assertEqual((len(store.new_blocks()), store.free()), (1, 250))
 
     def test_by_hand_after_a_commit(self):
-        for inode in (2, 3, 4):
-            store, root = self.with_cells(numbers(2048), [0] * 64 + numbers(500))
-            root = self.assert_same_change(store, erase_inode, erase_by_hand, root, inode)
-            self.assert_uses(store, root)
-            self.assert_refused(store, Missing, erase_inode, root, inode)
+        for contents in ((numbers(2048), [0] * 64 + numbers(500)), ([], numbers(40)), ([], numbers(200))):
+            for inode in (2, 3, 4):
+                store, root = self.with_cells(*contents)
+                root = self.assert_same_change(store, erase_inode, erase_by_hand, root, inode)
+                self.assert_uses(store, root)
+                self.assert_refused(store, Missing, erase_inode, root, inode)
+
+    def test_the_record_goes_last(self):
+        store, root = self.with_cells([], numbers(40))
+
+        def record_first(store, root, inode):
+            root, _ = take(store, root, (inode, 1, 0))
+            for unit in (0, 1):
+                root, value = take(store, root, (inode, 3, unit))
+                store.drop(value[:2])
+            return root
+
+        self.assertNotEqual(left_by(store, record_first, root, 3), left_by(store, erase_by_hand, root, 3))
+        self.assert_same_change(store, erase_inode, erase_by_hand, root, 3)
 
     def test_no_such_inode(self):
         store, root = self.with_cells(numbers(100))
