@@ -109,6 +109,14 @@ class Disk:
         self._writes = []
 
 
+def read_block(disk, number):
+    """Return the words of a block as they would be read."""
+    words = []
+    for at in range(BLOCK_SECTORS):
+        words.extend(disk.read(BLOCK_SECTORS * number + at))
+    return words
+
+
 def disk_from(image):
     """Return a new disk on which the sectors of an image last."""
     if not isinstance(image, list) or not all(are_words(words, SECTOR_WORDS) for words in image):

@@ -53,6 +53,19 @@ class Handles:
             del self._files[number]
         return None if self.is_open(volume, inode) else (volume, inode)
 
+    def is_last_reference(self, number):
+        """Tell whether the file is not open any more after a reference to this open file is taken."""
+        volume, inode, _, _, _ = self._found(number)
+        return sum(row[4] for row in self._files.values() if row[:2] == (volume, inode)) == 1
+
+    def saved(self):
+        """Return all open files as a plain value."""
+        return dict(self._files)
+
+    def restore(self, saved):
+        """Make the open files what they were when this value was returned."""
+        self._files = dict(saved)
+
     def is_open(self, volume, inode):
         """Tell whether a file of this volume and inode is open."""
         return any(row[:2] == (volume, inode) for row in self._files.values())
@@ -74,12 +87,24 @@ def find_orphans(store, volume):
     return list_orphans(store, root)
 
 
+def is_orphan(record):
+    """Tell whether this is the record of a file without a name."""
+    kind, links, _, _ = record
+    return kind == FILE and links == 0
+
+
+def check_orphan(store, root, inode):
+    """Return the owner of a file without a name; refuse another inode."""
+    record = read_record(store, root, inode)
+    if not is_orphan(record):
+        raise Busy()
+    return record[3]
+
+
 def remove_orphan(store, accounts, volume, inode):
     """Remove a file without a name from a writable volume, and return its charge to the accounts."""
     root, _ = find_writable(store, volume)
-    kind, links, _, owner = read_record(store, root, inode)
-    if kind != FILE or links > 0:
-        raise Busy()
+    owner = check_orphan(store, root, inode)
     charge = charge_of(store, root, inode)
     root = prepare_root(store, volume)
     set_root(store, volume, erase_inode(store, root, inode))
@@ -114,19 +139,18 @@ def recover_orphan(store):
 def is_removable(store, volume, inode):
     """Tell whether an inode is a file without a name in a writable volume."""
     root, writable, _ = find_volume(store, volume)
-    kind, links, _, _ = read_record(store, root, inode)
-    return writable and kind == FILE and links == 0
+    return writable and is_orphan(read_record(store, root, inode))
 
 
 def close_open_file(store, accounts, handles, number):
     """Take a reference; return the volume and the inode if an inode was removed with the last one, otherwise None."""
-    closed = handles.drop_reference(number)
-    if closed is None:
-        return None
-    volume, inode = closed
-    if is_removable(store, volume, inode) and remove_if_room(store, accounts, volume, inode):
-        return closed
-    return None
+    volume, inode, _, _ = handles.look_up(number)
+    # The reference is taken last: without power the file stays open.
+    removed = (
+        handles.is_last_reference(number) and is_removable(store, volume, inode)
+        and remove_if_room(store, accounts, volume, inode))
+    handles.drop_reference(number)
+    return (volume, inode) if removed else None
 
 
 def open_file_for(handles, number, letter):
@@ -166,11 +190,17 @@ def write_open_file(store, accounts, handles, number, cells):
 def resize_open_file(store, accounts, handles, number, length):
     """Set the length of an open file."""
     volume, inode, _, _ = open_file_for(handles, number, "w")
+    resize_file(store, accounts, volume, inode, length)
+
+
+def resize_file(store, accounts, volume, inode, length):
+    """Set the length of a file of a writable volume; tell whether that is a change."""
     root, _, _ = find_volume(store, volume)
     if file_length(store, root, inode) == length:
-        return
+        return False
     before = count_units(store, root, inode)
     owner = read_record(store, root, inode)[3]
     root = set_length(store, prepare_root(store, volume), inode, length)
     set_root(store, volume, root)
     accounts.add_charge(owner, count_units(store, root, inode) - before, 0)
+    return True

@@ -1,6 +1,6 @@
 """Owners and quotas: who the inodes belong to, what they are charged, and what limits there are."""
 
-from laminae.errors import Busy, LoopFound, Missing, NotEmpty, NotValid, OverQuota, TooMany
+from laminae.errors import BadImage, Busy, LoopFound, Missing, NotEmpty, NotValid, OverQuota, TooMany
 from laminae.volumes import count_charges, find_volume, list_volumes, put_table_item, table_items, take_table_item
 from laminae.words import is_word
 
@@ -30,6 +30,14 @@ def read_limit(word):
     return None if word == 0 else word - 1
 
 
+def registered_owners(store):
+    """Return each registered owner with its parent and its limits in ascending order."""
+    rows = []
+    for owner, (parent, charge_word, inode_word, _) in table_items(store, OWNER_KEY):
+        rows.append((owner, parent, read_limit(charge_word), read_limit(inode_word)))
+    return rows
+
+
 def passes(used, more, limit):
     """Tell whether a change makes more of what is used, and leaves it above the limit."""
     return limit is not None and more > 0 and used + more > limit
@@ -50,8 +58,8 @@ class Accounts:
     def __init__(self, store):
         """Read the owners, and count what they are charged."""
         self._owners = {}
-        for owner, value in table_items(store, OWNER_KEY):
-            self._owners[owner] = (value[0], read_limit(value[1]), read_limit(value[2]))
+        for owner, *row in registered_owners(store):
+            self._owners[owner] = tuple(row)
         self._charges = {}
         for name, writable, _ in list_volumes(store):
             if writable:
@@ -72,6 +80,9 @@ class Accounts:
         while found[-1] != 0:
             # An owner that is not registered is below owner 0, as if that were its parent.
             parent, _, _ = self._owners.get(found[-1], (0, None, None))
+            # On a disk that nobody has checked the parents may lead back to the owner.
+            if parent in found:
+                raise BadImage()
             found.append(parent)
         return found
 

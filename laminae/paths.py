@@ -4,7 +4,7 @@ from laminae.data import erase_inode
 from laminae.dirs import (
     add_entry, change_entry, check_new_entry, count_entries, directory_record, drop_entry, entry_of, find_entry,
     list_entries)
-from laminae.errors import BadName, LoopFound, NotEmpty, TooMany, WrongKind
+from laminae.errors import BadImage, BadName, LoopFound, NotEmpty, TooMany, WrongKind
 from laminae.inodes import DIRECTORY, FILE, MAX_LINKS, ROOT, add_inode, read_record, write_second
 from laminae.words import name_word
 
@@ -47,6 +47,9 @@ def way_up(store, root, directory):
     way = [directory]
     record = directory_record(store, root, directory)
     while way[-1] != ROOT:
+        # On a disk that nobody has checked the way may lead back to itself.
+        if record[1] in way:
+            raise BadImage()
         way.append(record[1])
         record = directory_record(store, root, way[-1])
     return way
@@ -59,8 +62,20 @@ def depth_of(store, root, directory):
 
 def height_of(store, root, directory):
     """Return the greatest number of directories below a directory, one within the other."""
-    children = [inode for _, inode, kind in list_entries(store, root, directory) if kind == DIRECTORY]
-    return max([1 + height_of(store, root, child) for child in children], default=0)
+    return height_below(store, root, directory, {})
+
+
+def height_below(store, root, directory, heights):
+    """Return the height of a directory; `heights` has those that are known, and None for the directories above."""
+    if directory not in heights:
+        heights[directory] = None
+        children = [inode for _, inode, kind in list_entries(store, root, directory) if kind == DIRECTORY]
+        below = [1 + height_below(store, root, child, heights) for child in children]
+        heights[directory] = max(below, default=0)
+    # On a disk that nobody has checked a directory may be below itself.
+    if heights[directory] is None:
+        raise BadImage()
+    return heights[directory]
 
 
 def is_within(store, root, inner, outer):

@@ -1,7 +1,7 @@
 """A disk in use: its present head, its space, and the blocks that no commit has written yet."""
 
-from laminae.disk import BLOCK_SECTORS, BLOCK_WORDS
-from laminae.errors import NoSpace, NotValid
+from laminae.disk import BLOCK_WORDS, read_block
+from laminae.errors import LaminaError, NoSpace, NotValid, PowerOff
 from laminae.heads import FIRST_BLOCK
 from laminae.space import ADD
 from laminae.words import are_words, is_word
@@ -44,10 +44,7 @@ class Store:
             raise NotValid()
         if number in self._memory:
             return list(self._memory[number])
-        words = []
-        for at in range(BLOCK_SECTORS):
-            words.extend(self.disk.read(BLOCK_SECTORS * number + at))
-        return words
+        return read_block(self.disk, number)
 
     def next_pointer(self):
         """Return the pointer of the block that would be made now."""
@@ -113,3 +110,15 @@ class Store:
         # The value may be restored again, so it keeps its own memory.
         self._memory = dict(memory)
         self.table = table
+
+
+def attempt(store, saved, work, *arguments):
+    """Do work on a store; if it is refused, make the store what it was when its state was saved."""
+    try:
+        return work(*arguments)
+    except PowerOff:
+        # Without power the store is not used any more.
+        raise
+    except LaminaError:
+        store.restore(saved)
+        raise

@@ -98,7 +98,7 @@ def charges_in(items):
             charges[owner] = (charge + 1, inodes + 1)
         elif kind == DATA_KEY:
             # The record of a file stands ahead of its units, so this is its owner.
-            charge, inodes = charges[owner]
+            charge, inodes = charges.get(owner, (0, 0))
             charges[owner] = (charge + 1, inodes)
     return charges
 

@@ -292,6 +292,20 @@ def table_items(store):
     return checked_items(store, store.table)[0]
 
 
+def set_by_hand(store, name, root):
+    """Give a volume another root in the table."""
+    value = dict(table_items(store))[(0, 4, name_word(name))]
+    if value[:2] != root:
+        store.use_table(put(store, store.table, (0, 4, name_word(name)), (*root, *value[2:])))
+
+
+def changed_by_hand(store, volume, change, *given):
+    """Change the tree of a volume after its root was prepared."""
+    value = dict(table_items(store))[(0, 4, name_word(volume))]
+    store.use_table(put(store, store.table, (0, 4, name_word(volume)), value))
+    set_by_hand(store, volume, change(store, value[:2], *given))
+
+
 def root_of(store, name):
     """The root of a volume, read without the module volumes."""
     return look_up(store, store.table, (0, 4, name_word(name)))[:2]

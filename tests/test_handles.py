@@ -4,35 +4,20 @@ import random
 import unittest
 
 from helpers import (
-    VolumeCase, erase_by_hand, fill, resize_by_hand, root_of, state_of, table_items, usages, without_orphans,
+    VolumeCase, changed_by_hand, erase_by_hand, fill, resize_by_hand, root_of, state_of, usages, without_orphans,
     write_by_hand, written)
 from laminae.commits import commit
 from laminae.data import list_units, read_range, set_length, share_range
-from laminae.errors import BadHandle, Busy, Missing, NoSpace, NotValid, NoVolume, OverQuota, ReadOnly, TooLong
+from laminae.errors import (
+    BadHandle, Busy, Missing, NoSpace, NotValid, NoVolume, OverQuota, PowerOff, ReadOnly, TooLong)
 from laminae.handles import (
     Handles, close_open_file, find_orphans, read_open_file, recover_orphan, remove_if_room, remove_orphan,
     resize_open_file, write_open_file)
 from laminae.inodes import DIRECTORY, add_inode, read_record
 from laminae.owners import Accounts
-from laminae.trees import put
 from laminae.volumes import clone_snapshot, find_volume, make_volume, prepare_root, set_root, take_snapshot
-from laminae.words import name_word
 
 MODES = ("r", "w", "rw", "wa", "rwa")
-
-
-def set_by_hand(store, name, root):
-    """Give a volume another root in the table."""
-    value = dict(table_items(store))[(0, 4, name_word(name))]
-    if value[:2] != root:
-        store.use_table(put(store, store.table, (0, 4, name_word(name)), (*root, *value[2:])))
-
-
-def changed_by_hand(store, volume, change, *given):
-    """Change the tree of a volume after its root was prepared."""
-    value = dict(table_items(store))[(0, 4, name_word(volume))]
-    store.use_table(put(store, store.table, (0, 4, name_word(volume)), value))
-    set_by_hand(store, volume, change(store, value[:2], *given))
 
 
 class HandleTest(unittest.TestCase):
@@ -708,6 +693,17 @@ class CloseTest(OpenFileCase):
             self.assertEqual((self.handles.open_files(), self.store.reserve), ([], reserve))
             self.assertEqual(find_orphans(self.store, "main"), [self.inode])
             self.open(self.inode)
+
+    def test_without_power_the_file_stays_open(self):
+        self.start_with_an_orphan()
+        self.open(self.inode)
+        before = self.handles.open_files(), usages(self.accounts)
+        self.store.disk.fail_after(0)
+        with self.assertRaises(PowerOff):
+            self.store.disk.flush()
+        with self.assertRaises(PowerOff):
+            self.close(0)
+        self.assertEqual((self.handles.open_files(), usages(self.accounts)), before)
 
     def test_an_orphan_of_a_snapshot_stays(self):
         self.start_with_an_orphan()

@@ -50,6 +50,14 @@ FUNCTIONS = {
         "close_open_file(store, accounts, handles, number)", "read_open_file(store, handles, number, count)",
         "write_open_file(store, accounts, handles, number, cells)",
         "resize_open_file(store, accounts, handles, number, length)"],
+    "procs": [
+        "fork(handles, processes, process)", "duplicate(handles, processes, process, descriptor)",
+        "close_descriptor(store, accounts, handles, processes, process, descriptor)",
+        "leave(store, accounts, handles, processes, process)"],
+    "intents": [
+        "sectors_of(intent)", "record_sectors(intent, record, generation)", "whole_records(sectors, generation)",
+        "check_intent(words)", "play(store, intent)", "play_all(store, intents)"],
+    "mounts": ["make_disk(blocks)", "count_uses(disk, head)", "open_disk(disk)", "recovery_step(store)", "mount(disk)"],
 }
 CONSTANTS = {
     "disk": {"MIN_BLOCKS": 96, "MAX_BLOCKS": 256, "SECTOR_WORDS": 8, "BLOCK_WORDS": 32},
@@ -84,6 +92,16 @@ CLASSES = {
         "__init__(self)", "open_files(self)", "add_open_file(self, volume, inode, mode)", "look_up(self, number)",
         "move_to(self, number, position)", "add_reference(self, number)", "drop_reference(self, number)",
         "is_open(self, volume, inode)", "uses_volume(self, volume)"]},
+    "procs": {"Processes": [
+        "__init__(self, volume)", "list_processes(self)", "look_up(self, process)", "set_owner(self, process, owner)",
+        "set_directory(self, process, volume, directory)", "has_room(self, process)",
+        "add_descriptor(self, process, number)", "find_open_file(self, process, descriptor)",
+        "drop_descriptor(self, process, descriptor)", "works_in(self, volume, directory)", "uses_volume(self, volume)",
+        "uses_owner(self, owner)"]},
+    "intents": {"Log": ["__init__(self, generation)", "fits(self, intents)", "append_records(self, intents)"]},
+    "session": {"Session": [
+        "__init__(self, store)", "commit_changes(self)", "write_log(self)", "note(self, intent)",
+        "prepare(self, reserve)"]},
 }
 
 

@@ -6,7 +6,7 @@ import unittest
 from helpers import VolumeCase, charges_of, table_items, usages
 from laminae.commits import commit
 from laminae.data import share_range
-from laminae.errors import Busy, LoopFound, Missing, NotEmpty, NotValid, OverQuota, TooMany
+from laminae.errors import BadImage, Busy, LoopFound, Missing, NotEmpty, NotValid, OverQuota, TooMany
 from laminae.inodes import charge_of
 from laminae.owners import Accounts
 from laminae.trees import put, take
@@ -438,6 +438,27 @@ def in_chains(parents, own, owner):
         if other == owner:
             found = [found[0] + charge, found[1] + inodes]
     return tuple(found)
+
+
+class UncheckedTest(OwnerCase):
+
+    def test_parents_that_lead_back_end_all_the_same(self):
+        self.start((1, 0, None, None), (2, 1, None, None), (3, 0, None, None))
+        for parent in (1, 2):
+            self.store.use_table(put(self.store, self.store.table, (0, 5, 1), (parent, 0, 0, 0)))
+            accounts = Accounts(self.store)
+            for owner in (1, 2):
+                with self.assertRaises(BadImage):
+                    accounts.chain(owner)
+            self.assertEqual(accounts.chain(3), [3, 0])
+
+    def test_units_without_a_record_are_counted_all_the_same(self):
+        self.start()
+        root = prepare_root(self.store, "main")
+        pointer = self.store.make([1] * 32)
+        root, _ = take(self.store, put(self.store, root, (1, 3, 0), (*pointer, 0, 0)), (1, 1, 0))
+        set_root(self.store, "main", root)
+        self.assertEqual(Accounts(self.store).usage(0), (1, 0))
 
 
 class CountedTest(OwnerCase):

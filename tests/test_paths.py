@@ -7,7 +7,7 @@ from helpers import ChangeChecks, checked_items, commit, counted_uses, left_by, 
 from laminae import paths
 from laminae.data import write_range
 from laminae.dirs import find_entry, list_entries
-from laminae.errors import BadName, Exists, LaminaError, LoopFound, Missing, NotEmpty, TooMany, WrongKind
+from laminae.errors import BadImage, BadName, Exists, LaminaError, LoopFound, Missing, NotEmpty, TooMany, WrongKind
 from laminae.inodes import DIRECTORY, FILE, make_tree, read_record, write_record
 from laminae.paths import (
     depth_of, follow, height_of, is_within, link_entry, make_entry, move_entry, path_names, remove_directory_entry,
@@ -372,6 +372,34 @@ class DirectoryTest(Tested):
                 self.assert_refused(self.store, error, function, self.root, inode)
             self.assert_refused(self.store, error, is_within, self.root, inode, 1)
             self.assert_refused(self.store, error, is_within, self.root, inode, inode)
+
+    def test_directories_that_lead_back_end_all_the_same(self):
+        self.start()
+        chain = self.directories(A, B, C)
+        for inode, parent in ((chain[0], chain[2]), (chain[1], chain[1])):
+            root = write_record(self.store, self.root, inode, (DIRECTORY, parent, 1, 7))
+            for call in (depth_of, path_names):
+                with self.assertRaises(BadImage):
+                    call(self.store, root, chain[2])
+            with self.assertRaises(BadImage):
+                is_within(self.store, root, chain[2], 1)
+            self.root = root
+        self.start()
+        chain = self.directories(A, B, C)
+        for directory, inode in ((chain[2], chain[2]), (chain[2], chain[0])):
+            root = put(self.store, self.root, (directory, 2, D), (inode, DIRECTORY, 0, 0))
+            with self.assertRaises(BadImage):
+                height_of(self.store, root, chain[0])
+            self.root = root
+
+    def test_the_height_of_directories_with_many_ways_down(self):
+        self.start()
+        chain = [1] + self.directories(*[name_of(number) for number in range(8)])
+        for number in range(7):
+            for name in (A, B, C, D):
+                value = (chain[number + 1], DIRECTORY, 0, 0)
+                self.root = put(self.store, self.root, (chain[number], 2, name), value)
+        self.assertEqual([height_of(self.store, self.root, inode) for inode in chain], list(range(8, -1, -1)))
 
     def test_a_directory_with_another_name_for_a_file_beside_it(self):
         self.start()
