@@ -57,6 +57,30 @@ FUNCTIONS = {
     "intents": [
         "sectors_of(intent)", "record_sectors(intent, record, generation)", "whole_records(sectors, generation)",
         "check_intent(words)", "play(store, intent)", "play_all(store, intents)"],
+    "calls": [
+        "open_file(session, process, path, mode)", "close_file(session, process, descriptor)",
+        "read_cells(session, process, descriptor, count)", "write_cells(session, process, descriptor, cells)",
+        "move_to(session, process, descriptor, position)", "resize(session, process, descriptor, length)",
+        "share_units(session, process, source, first, target, at, units)", "describe(session, process, path)",
+        "describe_open(session, process, descriptor)", "list_directory(session, process, path)"],
+    "naming": [
+        "make_directory(session, process, path)", "remove_directory(session, process, path)",
+        "link_file(session, process, old, new)", "unlink_file(session, process, path)",
+        "rename_path(session, process, old, new)", "give_path(session, process, path, owner)"],
+    "admin": [
+        "duplicate_file(session, process, descriptor)", "fork_process(session, process)",
+        "end_process(session, process)", "enter_directory(session, process, path)", "current_path(session, process)",
+        "become(session, process, owner)", "create_volume(session, process, name)",
+        "create_snapshot(session, process, volume, name)", "create_clone(session, process, snapshot, name)",
+        "restore_volume(session, process, volume, snapshot)", "delete_volume(session, process, name)",
+        "show_volumes(session, process)",
+        "put_owner(session, process, owner, parent, charge_limit, inode_limit)",
+        "delete_owner(session, process, owner)", "show_owners(session, process)",
+        "owner_usage(session, process, owner)", "sync_file(session, process, descriptor)",
+        "sync_all(session, process)", "room(session, process)"],
+    "system": ["state_of(store)", "call_names()"],
+    "checks": [
+        "check(image)", "reached(image)", "sound_items(image, root, generation)", "volume_state(image, items)"],
     "mounts": ["make_disk(blocks)", "count_uses(disk, head)", "open_disk(disk)", "recovery_step(store)", "mount(disk)"],
 }
 CONSTANTS = {
@@ -102,6 +126,9 @@ CLASSES = {
     "session": {"Session": [
         "__init__(self, store)", "commit_changes(self)", "write_log(self)", "note(self, intent)",
         "prepare(self, reserve)"]},
+    "system": {"System": [
+        "__init__(self, blocks)", "fail_after(self, count)", "cut(self, choices)", "mount(self)", "unmount(self)",
+        "ask(self, name, process, *arguments)", "state(self)", "image(self)"]},
 }
 
 
