@@ -91,13 +91,16 @@ def recovery_step(store):
 
 def check_trees(store):
     """Refuse a disk whose trees are none; recovery relies on them."""
-    tree_items(store.read, store.table)
+    def read(pointer):
+        """Return the words of a block."""
+        return store.read(pointer)
+    tree_items(read, store.table)
     roots = [root for _, root in waiting_roots(store)]
     for name, _, _ in list_volumes(store):
         root, _, _ = find_volume(store, name)
         roots.append(root)
     for root in roots:
-        tree_items(store.read, root)
+        tree_items(read, root)
 
 
 def mount(disk):

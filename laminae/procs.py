@@ -100,7 +100,6 @@ class Processes:
 
     def remove_process(self, process):
         """Forget a process and its descriptors."""
-        self.look_up(process)
         del self._places[process]
         del self._descriptors[process]
 

@@ -199,6 +199,11 @@ class OpenTest(CallCase):
         self.ask("put_owner", 1, 0, None, 0)
         self.refuse(OverQuota, "open_file", "new", "wm")
         self.refuse(ReadOnly, "open_file", "@s/new", "wm")
+        for at, limits in enumerate([(1, None), (None, 2), (3, 3)]):
+            self.ask("put_owner", 1, 0, *limits)
+            self.assertEqual(self.open(f"x{at}", "wm"), 5)
+            self.ask("close_file", 5)
+            self.refuse(OverQuota, "open_file", "y", "wm")
 
     def test_a_directory_that_is_full(self):
         self.start()
@@ -483,7 +488,10 @@ class ShareTest(CallCase):
         self.refuse(OverQuota, "share_units", 0, 2, 1, 3, 1)
         self.ask("share_units", 0, 1, 1, 0, 2)
         self.assertEqual(self.ask("owner_usage", 1), (3, 1))
-        self.ask("put_owner", 1, 0, 0, None)
+        self.ask("put_owner", 1, 0, 4, 1)
+        self.ask("share_units", 0, 0, 1, 9, 1)
+        self.ask("resize", 1, 288)
+        self.ask("put_owner", 1, 0, 0, 0)
         self.ask("share_units", 0, 2, 1, 1, 1)
         self.refuse(OverQuota, "share_units", 0, 2, 1, 9, 1)
 

@@ -132,12 +132,18 @@ class SoundTest(unittest.TestCase):
         self.refuse(self.tree(n7=inner(7, 2, [((7, 1, 0), (10, 2)), ((9, 1, 0), (10, 2)), ((13, 1, 0), (12, 2))])))
 
 
+    def test_nodes_that_lead_to_themselves(self):
+        blocks = {at: inner(at, 3, [((at, 1, 0), (at, 3)), ((at + 1, 1, 0), (at + 1, 3))]) for at in range(5, 95)}
+        self.refuse({**blocks, 95: inner(95, 3, [((95, 1, 0), (95, 3)), ((96, 1, 0), (5, 3))])})
+
+
 def words(blocks, number, at, word):
     """The words of a block with another one at an index."""
     return blocks[number][:at] + [word] + blocks[number][at + 1:]
 
 
-DATA = {20: [7] * 32, 21: [7] * 8 + [0] * 24, 22: [0] * 32, 23: [0] * 9 + [1] + [0] * 22}
+DATA = {
+    20: [7] * 32, 21: [7] * 8 + [0] * 24, 22: [0] * 32, 23: [0] * 9 + [1] + [0] * 22, 24: [7] + [0] * 31}
 ITEMS = [
     ((1, 1, 0), (2, 1, 3, 0)), ((1, 2, A), (2, 1, 0, 0)), ((1, 2, B), (3, 2, 0, 0)), ((1, 2, C), (2, 1, 0, 0)),
     ((2, 1, 0), (1, 3, 40, 7)), ((2, 3, 0), (20, 1, 0, 0)), ((2, 3, 1), (21, 1, 0, 0)),
@@ -211,6 +217,9 @@ class VolumeTest(unittest.TestCase):
     def test_bounds_of_directories(self):
         for value in ((2, 3, 0, 256), (2, 3, 0, GREAT), (2, 3, 101, 0), (2, 3, 1, 0)):
             self.refuse({(6, 1, 0): value})
+        # An inode of another kind, which its entry has, too.
+        for kind in (0, 3, GREAT):
+            self.refuse({(6, 1, 0): (kind, 3, 0, 255), (3, 2, D): (6, kind, 0, 0)})
 
     def test_the_root(self):
         for value in ((2, 3, 3, 0), (2, 0, 3, 0), (2, 2, 3, 0), (1, 1, 3, 0)):
@@ -275,12 +284,14 @@ class VolumeTest(unittest.TestCase):
 
     def test_units(self):
         # Of a directory, and of an inode without a record.
-        self.refuse({(3, 3, 0): (20, 1, 0, 0)})
-        self.refuse({(1, 3, 0): (20, 1, 0, 0)})
+        for number in (20, 24):
+            self.refuse({(3, 3, 0): (number, 1, 0, 0)})
+            self.refuse({(1, 3, 0): (number, 1, 0, 0)})
         # At the end of the file and behind it.
         self.refuse({(4, 3, 3): (20, 1, 0, 0)})
         self.refuse({(4, 3, GREAT): (20, 1, 0, 0)})
         self.refuse({(4, 1, 0): (1, 0, 32, 0)})
+        self.refuse({(4, 1, 0): (1, 0, 72, 0), (4, 3, 3): (21, 1, 0, 0)})
         self.accept({(4, 1, 0): (1, 0, 64, 0)})
         self.accept({(4, 1, 0): (1, 0, 2048, 0), (4, 3, 63): (20, 1, 0, 0)})
         self.refuse({(4, 1, 0): (1, 0, 2048, 0), (4, 3, 64): (20, 1, 0, 0)})
@@ -383,8 +394,8 @@ class TableTest(unittest.TestCase):
             return ((0, 5, number), (parent, charge, inodes, last))
 
         self.assertEqual(
-            self.accept(main, owner(1, 255, 0, 1), owner(255, 0, 100001, 6))[0][1],
-            [(1, 255, None, 0), (255, 0, 100000, 5)])
+            self.accept(main, owner(1, 255, 0, 1), owner(2, 1, 1, 100001), owner(255, 0, 100001, 6))[0][1],
+            [(1, 255, None, 0), (2, 1, 0, 100000), (255, 0, 100000, 5)])
         for row in (owner(0), owner(256), owner(GREAT), owner(1, 2), owner(1, 256), owner(1, 1), owner(1, 0, 100002),
                     owner(1, 0, 0, 100002), owner(1, 0, GREAT), owner(1, 0, 0, 0, 1)):
             self.refuse(main, row)

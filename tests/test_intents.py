@@ -481,6 +481,9 @@ class PlayTest(PlayCase):
                 self.store.restore(saved)
             fill(self.store, needed)
             play(self.store, intent)
+            if intent[0] == 9:
+                # Nothing that was taken is given up again, so no block is left.
+                self.assertEqual(self.store.free(), 0)
             self.store.restore(saved)
 
     def blocks_for(self, intent):

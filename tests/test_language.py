@@ -116,6 +116,34 @@ class LanguageTest(unittest.TestCase):
                 if isinstance(node, ast.Call) and isinstance(node.func, ast.Attribute):
                     self.assertIn(node.func.attr, own | METHODS, module)
 
+    def test_methods_are_called_and_not_passed_on(self):
+        nodes = [(module, node) for module, _, tree in parsed() for node in ast.walk(tree)]
+        methods = {node.name for _, kind in nodes if isinstance(kind, ast.ClassDef)
+                   for node in kind.body if isinstance(node, ast.FunctionDef)} | METHODS
+        stored = {node.attr for _, node in nodes if isinstance(node, ast.Attribute) and isinstance(node.ctx, ast.Store)}
+        called = [id(node.func) for _, node in nodes if isinstance(node, ast.Call)]
+        for module, node in nodes:
+            if isinstance(node, ast.Attribute) and node.attr in methods - stored:
+                self.assertIn(id(node), called, f"{module}: {node.attr}")
+
+    def test_what_is_called_and_with_which_keywords(self):
+        for module, _, tree in parsed():
+            for node in ast.walk(tree):
+                if isinstance(node, ast.Call):
+                    # A function from a table is given a name first.
+                    self.assertIsInstance(node.func, (ast.Name, ast.Attribute), module)
+                    self.assertTrue({keyword.arg for keyword in node.keywords} <= {"default", "key", "reverse"}, module)
+
+    def test_errors_that_are_caught_and_raised(self):
+        errors = {node.name for module, _, tree in parsed() if module == "errors" for node in tree.body
+                  if isinstance(node, ast.ClassDef)}
+        for module, _, tree in parsed():
+            for node in ast.walk(tree):
+                if isinstance(node, ast.ExceptHandler):
+                    self.assertIn(node.type.id, errors, module)
+                if isinstance(node, ast.Raise) and node.exc is not None:
+                    self.assertIn(node.exc.func.id, errors, module)
+
     def test_no_name_is_a_method_and_an_attribute_of_one_class(self):
         for module, _, tree in parsed():
             for kind in (node for node in tree.body if isinstance(node, ast.ClassDef)):

@@ -399,6 +399,21 @@ class StepTest(RecoveryCase):
         self.assertEqual(self.steps(), ["pending", "done"])
         self.assertEqual((waiting_roots(self.store), self.shown("main")), ([], before))
 
+    def test_the_reserve_of_a_release(self):
+        VolumeCase.start(self)
+        make_volume(self.store, None, "b")
+        drop_volume(self.store, None, "b")
+        commit(self.store)
+        self.open()
+        saved = self.store.saved()
+        fill(self.store, 0)
+        with self.assertRaises(BadImage):
+            recovery_step(self.store)
+        self.store.restore(saved)
+        # The leaf of the table is copied, and nothing else.
+        fill(self.store, 1)
+        self.assertEqual(recovery_step(self.store), "pending")
+
     def test_waiting_roots_of_rolling_back(self):
         VolumeCase.start(self)
         self.add_file("main", "a", [2] * 70)
@@ -577,10 +592,24 @@ class MountTest(RecoveryCase):
             open_disk(disk)
             with self.assertRaises(BadImage):
                 mount(disk)
+        for table in ([], [((0, 4, MAIN), (6, 1))], [((0, 4, A), (6, 1)), ((0, 4, MAIN), (6, 1))]):
+            disk = disk_of({5: inner(5, 1, table), 6: leaf(6, 1, [main])}, (5, 1))
+            open_disk(disk)
+            with self.assertRaises(BadImage):
+                mount(disk)
         blocks = {6: inner(6, 1, [((1, 1, 0), (7, 1)), ((5, 1, 0), (8, 1))]), 7: leaf(7, 1, records[:4]),
                   8: leaf(8, 1, records[4:])}
         store = mount(disk_of({5: leaf(5, 1, [main]), **blocks}, (5, 1)))
         self.assertEqual(shown(store, root_of(store, "main")), [ROOT_RECORD])
+
+    def test_nodes_that_lead_to_themselves(self):
+        # Each of them leads to itself and to the next one: the ways from the root are more than can be gone.
+        nodes = {at: inner(at, 1, [((at, 1, 0), (at, 1)), ((at + 1, 1, 0), (at + 1, 1))]) for at in range(6, 90)}
+        for key in ((0, 4, MAIN), (0, 6, 1)):
+            disk = disk_of({5: leaf(5, 1, [(key, (6, 1, 1, 0))]), **nodes, 90: inner(90, 1, [])}, (5, 1))
+            open_disk(disk)
+            with self.assertRaises(BadImage):
+                mount(disk)
 
     def test_directories_that_lead_back(self):
         # The directories 2 and 3 are each below the other one; moving into them ends all the same.

@@ -113,6 +113,10 @@ class MakeTest(NamingCase):
             self.refuse(error, "make_directory", path)
         self.ask("put_owner", 1, 0, None, 0)
         self.refuse(OverQuota, "make_directory", "x")
+        for at, limits in enumerate([(1, None), (None, 2), (3, 3)]):
+            self.ask("put_owner", 1, 0, *limits)
+            self.ask("make_directory", f"x{at}")
+            self.refuse(OverQuota, "make_directory", "y")
 
     def test_bounds(self):
         self.start()
@@ -152,7 +156,8 @@ class RemoveTest(NamingCase):
         self.refuse_paths("remove_directory")
         for path, error in (
                 ("a", WrongKind), ("@s/a", WrongKind), ("", Busy), ("/", Busy), ("@v", Busy), ("@s", Busy),
-                ("@s/g", Busy), ("d", NotEmpty), ("@s/d", NotEmpty), ("@s/d/e/f", ReadOnly)):
+                ("@s/g", Busy), ("d", NotEmpty), ("d/e", NotEmpty), ("@s/d", NotEmpty), ("@s/d/e", NotEmpty),
+                ("@s/d/e/f", ReadOnly)):
             self.refuse(error, "remove_directory", path)
 
     def test_working_directories(self):
@@ -197,6 +202,7 @@ class LinkTest(NamingCase):
         for old, new, error in (
                 ("d", "//", WrongKind), ("", "//", WrongKind), ("@s/d", "//", WrongKind), ("@v", "x", WrongKind),
                 ("a", "@v/a", CrossVolume), ("a", "@s/x", CrossVolume), ("@v/a", "x", CrossVolume),
+                ("a", "@v/a/x", WrongKind), ("a", "@s/d/b/x", WrongKind),
                 ("@v/a", "x/y", Missing), ("a", "d", Exists), ("a", "a", Exists), ("a", "d/b", Exists),
                 ("@s/a", "@s/d", Exists), ("@s/a", "@s/x", ReadOnly), ("@s/a", "@s/x/y", Missing)):
             self.refuse(error, "link_file", old, new)
@@ -338,6 +344,7 @@ class RenameTest(NamingCase):
         for old, new, error in (
                 ("", "//", Busy), ("/", "x", Busy), ("@v", "@no/x", Busy), ("@s", "x", Busy),
                 ("a", "@v/a", CrossVolume), ("@v/a", "a", CrossVolume), ("d", "@s/d/e/f", CrossVolume),
+                ("a", "@v/a/x", WrongKind), ("d", "@s/d/b/x", WrongKind),
                 ("@s/a", "@s/x", ReadOnly),
                 ("@s/a", "@s/g", ReadOnly), ("@s/d", "@s/d/e/f/x", ReadOnly), ("@s/a", "@s/d", ReadOnly)):
             self.refuse(error, "rename_path", old, new)

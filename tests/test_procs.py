@@ -375,6 +375,12 @@ class CloseTest(CloseCase):
         with self.assertRaises(PowerOff):
             self.leave(0)
         self.assertEqual((self.memory(), usages(self.accounts)), before)
+        # The first descriptor can be closed without power, the next ones cannot.
+        self.handles.add_reference(0)
+        before = self.memory()
+        with self.assertRaises(PowerOff):
+            self.leave(0)
+        self.assertEqual(self.memory(), before)
 
 
 class LeaveTest(CloseCase):

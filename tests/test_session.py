@@ -306,6 +306,15 @@ class PrepareTest(VolumeCase):
                 else:
                     self.assertEqual((store.disk.image(), self.session.changes), (image, changes))
 
+    def test_one_pending_block(self):
+        store = self.start_with(99, False)
+        self.session.prepare(60)
+        self.assertEqual(len(self.session.changes), 1)
+        store.space.drop(store.table[0])
+        self.assertEqual((store.free(), store.space.pending()), (99, 1))
+        self.session.prepare(60)
+        self.assertEqual(self.session.changes, [])
+
     def test_the_value_restores_the_store(self):
         for free in (150, 99):
             store = self.start_with(free, True)
