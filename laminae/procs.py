@@ -120,9 +120,10 @@ def fork(handles, processes, process):
 def duplicate(handles, processes, process, descriptor):
     """Return a new descriptor for the open file that another descriptor names."""
     number = processes.find_open_file(process, descriptor)
-    fresh = processes.add_descriptor(process, number)
+    if not processes.has_room(process):
+        raise TooMany()
     handles.add_reference(number)
-    return fresh
+    return processes.add_descriptor(process, number)
 
 
 def close_descriptor(store, accounts, handles, processes, process, descriptor):

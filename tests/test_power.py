@@ -102,8 +102,8 @@ class SequenceTest(PowerCase):
         ("unlink_file", "b"), ("sync_file", 0), ("create_clone", "s", "c"), ("rename_path", "@c/b", "@c/d/z"),
         ("open_file", "@c/x", "wm"), ("share_units", 0, 0, 0, 1, 1), ("close_file", 0), ("sync_file", 1),
         ("rename_path", "@c/x", "@c/d/z"), ("resize", 1, 70), ("create_snapshot", "c", "t"), ("close_file", 1),
-        ("rename_path", "@c/d/a", "@c/d/z"), ("sync_all",), ("restore_volume", "c", "t"), ("remove_directory", "@c/e"),
-        ("create_volume", "v"), ("fork_process",), ("enter_directory", "@v"), ("open_file", "y", "wm"),
+        ("rename_path", "@c/d/a", "@c/d/z"), ("make_directory", "@c/e"), ("remove_directory", "@c/e"), ("sync_all",),
+        ("restore_volume", "c", "t"), ("create_volume", "v"), ("fork_process",), ("enter_directory", "@v"), ("open_file", "y", "wm"),
         ("unlink_file", "y"), ("end_process",)]
 
     def test_calls_of_all_kinds(self):
@@ -111,8 +111,11 @@ class SequenceTest(PowerCase):
         for name, *given in self.CALLS:
             self.assertTrue(self.ask(name, 0, *given))
             self.check_now()
-        for name, *given in (("delete_volume", "c"), ("delete_volume", "t"), ("delete_volume", "c"), ("sync_all",)):
+        for name, *given in (
+                ("delete_volume", "c"), ("delete_volume", "t"), ("delete_owner", 1), ("delete_volume", "c"),
+                ("delete_owner", 1), ("sync_all",)):
             self.assertTrue(self.ask(name, 1, *given))
+        self.assertEqual((len(self.system.state()[0]), self.system.state()[1]), (3, []))
         self.assertGreater(self.cuts, 1000)
         # Each of the calls that change something gave another state.
         self.assertGreater(len([1 for one, two in zip(self.states, self.states[1:]) if one != two]), 20)
